@@ -1,5 +1,7 @@
 """What a move does in a content, and which moves are not barred there."""
 
+from paidahead.values import is_number, is_row
+
 
 def done(house, content, move):
     """Return (content, paid): where a move of the house leads, and what it pays; None if it is barred."""
@@ -24,6 +26,13 @@ def moves(house, content):
             if after is not None:
                 found.append(((deed, way), after[0], after[1]))
     return tuple(found)
+
+
+def is_move(house, value):
+    """Tell whether value, which may be any value, is a pair of a deed of the house and a way of it."""
+    if not (is_row(value, 2, 2) and is_number(value[0], 0, len(house[2]) - 1)):
+        return False
+    return is_number(value[1], 0, len(house[2][value[0]]) - 1)
 
 
 def _stepped(sizes, content, step):

@@ -22,6 +22,48 @@ MOVES = """
     (((2,), 1), None, (((1, 0), (0,), 7),))
 """
 
+HISTORIES = """
+    >>> from paidahead.histories import road_to, walked
+    >>> put = ((("add", 0, 1), ("pay", 1)),)
+    >>> read = ((("toll", 0, (0, 4, 6, 7, 7)), ("set", 0, 0)),)
+    >>> log = ((5,), (0,), (put, read))
+    >>> (walked(log, (0,), ((0, 0), (0, 0), (1, 0))), road_to(log, (2,)))
+    (((0,), (2, 1), 8), ((0, 0), (0, 0)))
+"""
+
+RINGS = """
+    >>> from paidahead.rings import is_ring, turned
+    >>> put = ((("add", 0, 1), ("pay", 1)),)
+    >>> read = ((("toll", 0, (0, 4, 6, 7, 7)), ("set", 0, 0)),)
+    >>> log = ((5,), (0,), (put, read))
+    >>> (turned(log, ((), ((0, 0), (1, 0)))), is_ring(log, ((), ((0, 0),))))
+    (((1, 1), 5), False)
+"""
+
+TARIFFS = """
+    >>> from paidahead.tariffs import charge, is_fair
+    >>> put = ((("add", 0, 1), ("pay", 1)),)
+    >>> read = ((("toll", 0, (0, 4, 6, 7, 7)), ("set", 0, 0)),)
+    >>> log = ((5,), (0,), (put, read))
+    >>> (charge(((3, 2), 1), (2, 1)), is_fair(log, ((3, 2), 1)), is_fair(log, ((1, 1), 1)))
+    (8, True, False)
+"""
+
+STOCKS = """
+    >>> from paidahead.stocks import needs
+    >>> put = ((("add", 0, 1), ("pay", 1)),)
+    >>> read = ((("toll", 0, (0, 4, 6, 7, 7)), ("set", 0, 0)),)
+    >>> log = ((5,), (0,), (put, read))
+    >>> needs(log, ((3, 2), 1))
+    (((0,), 0), ((1,), 2), ((2,), 4), ((3,), 5), ((4,), 5))
+    >>> from paidahead.stocks import sure
+    >>> put = ((("add", 0, 1), ("pay", 1)),)
+    >>> read = ((("toll", 0, (0, 4, 6, 7, 7)), ("set", 0, 0)),)
+    >>> log = ((5,), (0,), (put, read))
+    >>> sure(log, ((3, 2), 1), start=0)
+    (((0,), 0), ((1,), 2), ((2,), 4), ((3,), 6), ((4,), 8))
+"""
+
 README = os.path.join(os.path.dirname(os.path.dirname(os.path.abspath(__file__))), "README.md")
 
 
@@ -38,6 +80,18 @@ class ExamplesTest(unittest.TestCase):
 
     def test_moves(self):
         self.follow(MOVES, "moves")
+
+    def test_histories(self):
+        self.follow(HISTORIES, "histories")
+
+    def test_rings(self):
+        self.follow(RINGS, "rings")
+
+    def test_tariffs(self):
+        self.follow(TARIFFS, "tariffs")
+
+    def test_stocks(self):
+        self.follow(STOCKS, "stocks")
 
     def test_readme(self):
         with open(README, encoding="utf-8") as file:

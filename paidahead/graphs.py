@@ -1,0 +1,53 @@
+"""The contents that histories lead to, and the moves between them."""
+
+from paidahead.moves import moves
+
+
+def graph_from(house, content):
+    """Return a dict: for each content to which histories from this one lead, what moves tells of it."""
+    graph = {}
+    waiting = [content]
+    while waiting:
+        place = waiting.pop()
+        if place not in graph:
+            graph[place] = moves(house, place)
+            waiting.extend([after for _, after, _ in graph[place]])
+    return graph
+
+
+def backward(graph):
+    """Return the same moves by the contents to which they lead, with the content before in each."""
+    found = {content: [] for content in graph}
+    for content, lines in graph.items():
+        for move, after, paid in lines:
+            found[after].append((move, content, paid))
+    return found
+
+
+def way_between(graph, first, last):
+    """Return a shortest history from the first content to the last one; None if there is none."""
+    chains = {first: None}
+    places = [first]
+    at = 0
+    while at < len(places) and last not in chains:
+        place = places[at]
+        for move, after, _ in graph[place]:
+            if after not in chains:
+                chains[after] = (chains[place], move)
+                places.append(after)
+        at += 1
+    if last not in chains:
+        return None
+    return tuple(reversed(unchained(chains[last])))
+
+
+def unchained(chain):
+    """Return the list of the moves of a chain, the newest first.
+
+    A chain is None, or a pair of the chain before and a move: so many chains share what they have alike.
+    """
+    found = []
+    while chain is not None:
+        chain, move = chain
+        found.append(move)
+    return found

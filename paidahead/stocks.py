@@ -1,0 +1,52 @@
+"""What stock a tariff needs, and what of it is surely there."""
+
+from paidahead.errors import Unfair
+from paidahead.graphs import backward, graph_from, unchained
+from paidahead.walks import best_walks
+
+
+def needs(house, tariff):
+    """Return the tuple of (content, need) for the contents come to; None if the tariff is not fair."""
+    walks = _walks_from_all(house, tariff)
+    if walks is None:
+        return None
+    return tuple([(content, walks[content][0]) for content in sorted(walks)])
+
+
+def needing(house, tariff, content):
+    """Return a history from a content come to that has its need."""
+    walks = _walks_from_all(house, tariff)
+    if walks is None:
+        raise Unfair()
+    # These walks grew backward, so that the newest move is the first one.
+    return tuple(unchained(walks[content][1]))
+
+
+def sure(house, tariff, *, start):
+    """Return the tuple of (content, sure) for the contents come to, with this stock at begin."""
+    needed = _walks_from_all(house, tariff)
+    if needed is None or start < needed[house[1]][0]:
+        raise Unfair()
+    walks = _walks_from_begin(house, tariff)
+    return tuple([(content, start - walks[content][0]) for content in sorted(walks)])
+
+
+def spending(house, tariff, content):
+    """Return a history from begin to a content come to, by which just what is sure is left there."""
+    walks = _walks_from_begin(house, tariff)
+    if walks is None:
+        raise Unfair()
+    return tuple(reversed(unchained(walks[content][1])))
+
+
+def _walks_from_begin(house, tariff):
+    """Return for each content come to the best walk from begin to it; None if the tariff is not fair."""
+    best, growing = best_walks(graph_from(house, house[1]), (house[1],), tariff)
+    return None if growing else best
+
+
+def _walks_from_all(house, tariff):
+    """Return for each content come to the best walk from it to any one; None if the tariff is not fair."""
+    graph = graph_from(house, house[1])
+    best, growing = best_walks(backward(graph), tuple(graph), tariff)
+    return None if growing else best

@@ -1,0 +1,35 @@
+"""What the interface lists: each function, defined in its file, with its arguments."""
+
+import importlib
+import inspect
+import unittest
+
+FUNCTIONS = {
+    "houses": ("require_house(value)", "contents(house)"),
+    "moves": ("done(house, content, move)", "moves(house, content)"),
+    "histories": ("come_to(house)", "walked(house, content, history)", "road_to(house, content)"),
+    "rings": ("is_ring(house, value)", "turned(house, ring)"),
+    "tariffs": (
+        "require_tariff(house, value)", "charge(tariff, counts)", "is_fair(house, tariff)", "short_ring(house, tariff)",
+    ),
+    "stocks": (
+        "needs(house, tariff)", "needing(house, tariff, content)", "sure(house, tariff, *, start)",
+        "spending(house, tariff, content)",
+    ),
+}
+
+
+class InterfaceTest(unittest.TestCase):
+    def test_functions(self):
+        for file, listed in FUNCTIONS.items():
+            module = importlib.import_module("paidahead." + file)
+            for told in listed:
+                with self.subTest(file=file, function=told):
+                    function = getattr(module, told.partition("(")[0])
+                    self.assertTrue(inspect.isfunction(function))
+                    self.assertEqual(function.__module__, module.__name__)
+                    self.assertEqual(function.__name__ + str(inspect.signature(function)), told)
+
+
+if __name__ == "__main__":
+    unittest.main()
