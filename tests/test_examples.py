@@ -64,6 +64,34 @@ STOCKS = """
     (((0,), 0), ((1,), 2), ((2,), 4), ((3,), 6), ((4,), 8))
 """
 
+WORTHS = """
+    >>> from paidahead.worths import worth
+    >>> put = ((("add", 0, 1), ("pay", 1)),)
+    >>> read = ((("toll", 0, (0, 4, 6, 7, 7)), ("set", 0, 0)),)
+    >>> log = ((5,), (0,), (put, read))
+    >>> (worth(log, (3, 2)), worth(log, (1, 1)), worth(log, (7, 2)))
+    ((13, 1), (5, 1), (21, 1))
+"""
+
+PLANS = """
+    >>> from paidahead.plans import is_within, plan_pays
+    >>> put = ((("add", 0, 1), ("pay", 1)),)
+    >>> read = ((("toll", 0, (0, 4, 6, 7, 7)), ("set", 0, 0)),)
+    >>> log = ((5,), (0,), (put, read))
+    >>> pair = (1, ((1, (), ((0, 0), (1, 0))), (1, (), ((0, 0), (0, 0), (1, 0)))))
+    >>> (plan_pays(log, pair), is_within(log, pair, (3, 2)), is_within(log, pair, (3, 1)))
+    ((13, 1), True, False)
+"""
+
+HOME = """
+    >>> from paidahead.home import comes_home, strays
+    >>> put = ((("add", 0, 1), ("pay", 1)),)
+    >>> read = ((("toll", 0, (0, 4, 6, 7, 7)), ("set", 0, 0)),)
+    >>> log = ((5,), (0,), (put, read))
+    >>> (comes_home(log), strays(log), strays(((2,), (0,), (((("set", 0, 1),),),))))
+    (True, (), ((1,),))
+"""
+
 README = os.path.join(os.path.dirname(os.path.dirname(os.path.abspath(__file__))), "README.md")
 
 
@@ -92,6 +120,15 @@ class ExamplesTest(unittest.TestCase):
 
     def test_stocks(self):
         self.follow(STOCKS, "stocks")
+
+    def test_worths(self):
+        self.follow(WORTHS, "worths")
+
+    def test_plans(self):
+        self.follow(PLANS, "plans")
+
+    def test_home(self):
+        self.follow(HOME, "home")
 
     def test_readme(self):
         with open(README, encoding="utf-8") as file:

@@ -16,6 +16,9 @@ FUNCTIONS = {
         "needs(house, tariff)", "needing(house, tariff, content)", "sure(house, tariff, *, start)",
         "spending(house, tariff, content)",
     ),
+    "worths": ("worth(house, mix)", "best_tariff(house, mix)"),
+    "plans": ("best_plan(house, mix)", "plan_pays(house, plan)", "is_within(house, plan, mix)"),
+    "home": ("strays(house)", "comes_home(house)", "home_road(house, content)", "round_all(house, plan, *, laps)"),
 }
 
 
