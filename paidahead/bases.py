@@ -82,7 +82,7 @@ def _better_column(house, graph, basis):
     for deed, price in enumerate(prices):
         if price < 0:
             return left_over(len(prices), deed)
-    ring = unpaid_ring(house, graph, (prices, basis.scale))
+    ring = unpaid_ring(graph, house[1], (prices, basis.scale))
     if ring is None:
         return None
     counts, paid = turned(house, ring)

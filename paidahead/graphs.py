@@ -1,31 +1,40 @@
-"""The contents that histories lead to, and the moves between them."""
+"""The contents that histories lead to, and the moves between them.
+
+A graph is a dict: for each place the lines of the moves that are not barred there, as (move, next place, payment).
+The places of most graphs are contents.
+"""
 
 from paidahead.moves import moves
 
 
 def graph_from(house, content):
-    """Return a dict: for each content to which histories from this one lead, what moves tells of it."""
+    """Return the graph of the contents to which histories from this one lead."""
+    return spread(content, lambda place: moves(house, place))
+
+
+def spread(start, lines):
+    """Return the graph of the places to which moves lead from start; lines returns the lines of a place."""
     graph = {}
-    waiting = [content]
+    waiting = [start]
     while waiting:
         place = waiting.pop()
         if place not in graph:
-            graph[place] = moves(house, place)
+            graph[place] = lines(place)
             waiting.extend([after for _, after, _ in graph[place]])
     return graph
 
 
 def backward(graph):
-    """Return the same moves by the contents to which they lead, with the content before in each."""
-    found = {content: [] for content in graph}
-    for content, lines in graph.items():
+    """Return the same moves by the places to which they lead, with the place before in each."""
+    found = {place: [] for place in graph}
+    for place, lines in graph.items():
         for move, after, paid in lines:
-            found[after].append((move, content, paid))
+            found[after].append((move, place, paid))
     return found
 
 
 def way_between(graph, first, last):
-    """Return a shortest history from the first content to the last one; None if there is none."""
+    """Return a shortest history from the first place to the last one; None if there is none."""
     chains = {first: None}
     places = [first]
     at = 0

@@ -1,7 +1,7 @@
 """What a house is, and which contents it has."""
 
 from paidahead.errors import InvalidHouse
-from paidahead.values import is_number, is_row
+from paidahead.values import is_number, is_row, rows_below
 
 MOST_CELLS = 3
 LEAST_SIZE = 2
@@ -31,10 +31,7 @@ def require_house(value):
 
 def contents(house):
     """Return the ascending tuple of all contents of a house."""
-    found = [()]
-    for size in house[0]:
-        found = [content + (value,) for content in found for value in range(size)]
-    return tuple(found)
+    return rows_below(house[0])
 
 
 def is_content(sizes, value):

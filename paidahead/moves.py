@@ -1,6 +1,6 @@
 """What a move does in a content, and which moves are not barred there."""
 
-from paidahead.values import is_number, is_row
+from paidahead.values import is_number, is_row, replaced
 
 
 def done(house, content, move):
@@ -51,7 +51,7 @@ def _stepped(sizes, content, step):
     if word == "take":
         return _given(sizes, content, cell, value - told)
     if word == "pour":
-        return _given(sizes, _replaced(content, cell, 0), told, content[told] + value)
+        return _given(sizes, replaced(content, cell, 0), told, content[told] + value)
     inside = told <= value <= step[3]
     if word == "only":
         return (content, 0) if inside else None
@@ -61,9 +61,5 @@ def _stepped(sizes, content, step):
 def _given(sizes, content, cell, value):
     """Return (content, paid) of a step that gives a cell this value; None if the value leaves the size."""
     if 0 <= value < sizes[cell]:
-        return _replaced(content, cell, value), 0
+        return replaced(content, cell, value), 0
     return None
-
-
-def _replaced(content, cell, value):
-    return content[:cell] + (value,) + content[cell + 1:]

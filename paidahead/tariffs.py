@@ -2,7 +2,7 @@
 
 from paidahead.errors import InvalidTariff
 from paidahead.graphs import graph_from
-from paidahead.quotients import divisor
+from paidahead.quotients import divisor, lowest
 from paidahead.values import is_number, is_row
 from paidahead.walks import unpaid_ring
 
@@ -25,6 +25,11 @@ def charge(tariff, counts):
     return sum([price * count for price, count in zip(tariff[0], counts)])
 
 
+def sum_by(tariff, mix):
+    """Return the sum of the tariff by a mix, as (p, q) in lowest terms."""
+    return lowest((charge(tariff, mix), tariff[1]))
+
+
 def is_fair(house, tariff):
     """Tell whether the tariff pays all rings."""
     return short_ring(house, tariff) is None
@@ -32,7 +37,7 @@ def is_fair(house, tariff):
 
 def short_ring(house, tariff):
     """Return a ring that the tariff does not pay, or None."""
-    return unpaid_ring(house, graph_from(house, house[1]), tariff)
+    return unpaid_ring(graph_from(house, house[1]), house[1], tariff)
 
 
 def _are_prices(house, value):

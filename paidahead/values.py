@@ -1,4 +1,4 @@
-"""Questions that may be asked of any value."""
+"""Questions that may be asked of any value, and what is done with tuples of numbers."""
 
 
 def is_number(value, low, high):
@@ -9,3 +9,16 @@ def is_number(value, low, high):
 def is_row(value, low, high):
     """Tell whether value is a tuple of low to high parts."""
     return isinstance(value, tuple) and low <= len(value) <= high
+
+
+def rows_below(sizes):
+    """Return the ascending tuple of all tuples that have for each size a number from 0 to one below it."""
+    found = [()]
+    for size in sizes:
+        found = [row + (number,) for row in found for number in range(size)]
+    return tuple(found)
+
+
+def replaced(row, at, value):
+    """Return the tuple with this value at an index."""
+    return row[:at] + (value,) + row[at + 1:]

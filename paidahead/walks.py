@@ -1,18 +1,17 @@
 """The histories that cost most beyond what a tariff charges for them."""
 
 from paidahead.graphs import unchained
-from paidahead.moves import done
 
 
 def best_walks(graph, starts, tariff):
     """Return (best, growing).
 
-    best has for each content (amount, chain) of a walk to it from one of the starts: amount is the greatest of
+    best has for each place (amount, chain) of a walk to it from one of the starts: amount is the greatest of
     q times payment less charge. growing is empty if that is so. Else a ring in the graph is not paid; then a walk
-    in growing has as many moves as there are contents, and more than each walk of fewer moves to where it leads.
+    in growing has as many moves as there are places, and more than each walk of fewer moves to where it leads.
     """
-    best = {content: (0, None) for content in starts}
-    growing = {content: best[content] for content in best}
+    best = {place: (0, None) for place in starts}
+    growing = {place: best[place] for place in best}
     rounds = 0
     while growing and rounds < len(graph):
         growing = _longer(graph, tariff, best, growing)
@@ -28,8 +27,8 @@ def _longer(graph, tariff, best, growing):
     """
     prices, q = tariff
     found = {}
-    for content, (amount, chain) in growing.items():
-        for move, after, paid in graph[content]:
+    for place, (amount, chain) in growing.items():
+        for move, after, paid in graph[place]:
             more = amount + q * paid - prices[move[0]]
             known = found.get(after) or best.get(after)
             if known is None or more > known[0]:
@@ -37,24 +36,29 @@ def _longer(graph, tariff, best, growing):
     return found
 
 
-def unpaid_ring(house, graph, tariff):
+def unpaid_ring(graph, begin, tariff):
     """Return a ring that the tariff does not pay, or None; the graph is that from begin."""
-    growing = best_walks(graph, (house[1],), tariff)[1]
+    growing = best_walks(graph, (begin,), tariff)[1]
     if not growing:
         return None
     # Without the ring that it closes, the walk would have fewer moves, hence less: so the ring has more than 0.
     chain = max(list(growing.values()), key=lambda walk: walk[0])[1]
-    return _first_ring(house, unchained(chain)[::-1])
+    return _first_ring(graph, begin, unchained(chain)[::-1])
 
 
-def _first_ring(house, history):
+def _first_ring(graph, begin, history):
     """Return the ring that is closed first in a list of moves from begin, which closes one."""
-    place = house[1]
-    places = []
-    for move in history:
-        places.append(place)
-        place = done(house, place, move)[0]
-        if place in places:
+    place = begin
+    indexes = {}
+    for at, move in enumerate(history):
+        indexes[place] = at
+        place = _next_place(graph[place], move)
+        if place in indexes:
             break
-    start = places.index(place)
-    return tuple(history[:start]), tuple(history[start:len(places)])
+    start = indexes[place]
+    return tuple(history[:start]), tuple(history[start:len(indexes)])
+
+
+def _next_place(lines, move):
+    """Return the place to which a move leads that stands in these lines."""
+    return [after for known, after, _ in lines if known == move][0]

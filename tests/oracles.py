@@ -123,3 +123,74 @@ def _solved(rows):
 
 def lowest(p, q):
     return p // gcd(p, q), q // gcd(p, q)
+
+
+def corners(house):
+    """The corners of the front: where two of the things that are asked of the prices just hold, and all others do."""
+    asked = turns(house) + [((1, 0), 0), ((0, 1), 0)]
+    found = set()
+    for rows in combinations(asked, 2):
+        prices = _solved([list(counts) + [paid] for counts, paid in rows])
+        if prices is not None and all(_sum(counts, prices) >= paid for counts, paid in asked):
+            found.add(tuple(prices))
+    return sorted(found)
+
+
+def quotients(tariff):
+    """The prices of a tariff as fractions."""
+    return tuple(Fraction(price, tariff[1]) for price in tariff[0])
+
+
+def most(house, limits):
+    """The most for limits, by all that can be done and what it pays at most, one move after the other."""
+    known = {(house[1], (0,) * len(limits)): 0}
+    best = 0
+    while known:
+        longer = {}
+        for (content, counts), paid in known.items():
+            for (deed, _), after, more in moves(house, content):
+                if counts[deed] < limits[deed]:
+                    key = after, counts[:deed] + (counts[deed] + 1,) + counts[deed + 1:]
+                    longer[key] = max(paid + more, longer.get(key, 0))
+        best = max([best] + list(longer.values()))
+        known = longer
+    return best
+
+
+def common_moves(house, other, pair):
+    """(move, pair of contents, payment of the first less that of the other) for each common move."""
+    found = []
+    for move, after, paid in moves(house, pair[0]):
+        beside = done(other, pair[1], (move[0], 0))
+        if beside is not None:
+            found.append((move, (after, beside[0]), paid - beside[1]))
+    return found
+
+
+def excess(house, other):
+    """The excess, or None: once round for each pair of contents, and it must not become more then."""
+    known, lines = {(house[1], other[1]): 0}, {}
+    rounds = 0
+    while True:
+        before = dict(known)
+        for pair, more in before.items():
+            if pair not in lines:
+                lines[pair] = common_moves(house, other, pair)
+            for _, after, gain in lines[pair]:
+                known[after] = max(more + gain, known.get(after, more + gain))
+        if known == before:
+            return max(known.values())
+        rounds += 1
+        if rounds > len(known):
+            return None
+
+
+def common_walk(house, other, pair, history):
+    """(pair of contents, payment of the first less that of the other) of a common history, or None if it is barred."""
+    total = 0
+    for move in history:
+        mine, theirs = done(house, pair[0], move), done(other, pair[1], (move[0], 0))
+        if mine is None or theirs is None:
+            return None
+        pair, total = (mine[0], theirs[0]), total + mine[1] - theirs[1]
+    return pair, total

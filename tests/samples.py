@@ -2,6 +2,7 @@
 
 import random
 
+from paidahead.histories import come_to
 from paidahead.houses import require_house
 from paidahead.moves import moves
 
@@ -83,6 +84,40 @@ BEHIND = ((4,), (0,), (((("add", 0, 1), ("pay", 50)), (("only", 0, 3, 3), ("pay"
 # No ring pays anything.
 FREE = ((3,), (0,), (((("when", 0, 0, 1, ("add", 0, 1)),),), ((("set", 0, 0),),)))
 
+# A turn is two moves of the first deed and three of the second one, and pays 5.
+FIVE = (
+    (6,),
+    (0,),
+    (
+        ((("only", 0, 0, 1), ("add", 0, 1), ("pay", 1)),),
+        ((("only", 0, 2, 3), ("add", 0, 1), ("pay", 1)), (("only", 0, 4, 4), ("set", 0, 0), ("pay", 1))),
+    ),
+)
+
+# Counts puts from 0 to 23; a read at n pays so much that n puts and the read pay more by less and less: its front
+# has 23 corners.
+COUNTER = (
+    (8, 3),
+    (0, 0),
+    (
+        ((("only", 0, 0, 6), ("add", 0, 1)), (("only", 0, 7, 7), ("set", 0, 0), ("add", 1, 1))),
+        (
+            (
+                ("only", 1, 0, 0), ("toll", 0, (0, 23, 45, 66, 86, 99, 99, 99)),
+                ("toll", 0, (0, 0, 0, 0, 0, 6, 24, 41)), ("set", 0, 0),
+            ),
+            (
+                ("only", 1, 1, 1), ("toll", 0, (57, 73, 88, 99, 99, 99, 99, 99)), ("pay", 99),
+                ("toll", 0, (0, 0, 0, 3, 16, 28, 39, 49)), ("set", 0, 0), ("set", 1, 0),
+            ),
+            (
+                ("only", 1, 2, 2), ("toll", 0, (58, 66, 73, 79, 84, 88, 91, 93)), ("pay", 99), ("pay", 99),
+                ("set", 0, 0), ("set", 1, 0),
+            ),
+        ),
+    ),
+)
+
 
 # As large as a house may be: 24 contents, all come to, and three deeds of three ways of six steps each.
 def _busy(first, second, many, few):
@@ -116,6 +151,19 @@ LARGE = (
 )
 
 NAMED = (LOG, FULL, WIDE, WHEEL, ROUND, ROOMS, SHUT, STUCK, BEHIND, FREE, LARGE)
+
+# The largest houses of two deeds.
+LARGE_PAIRS = tuple(LARGE[:2] + ((LARGE[2][k], LARGE[2][n]),) for k, n in ((0, 1), (1, 2), (2, 0))) + (COUNTER,)
+
+
+def only_ways(house, ways=(0, 0, 0)):
+    """The house with one way alone for each deed."""
+    return house[:2] + (tuple((deed[way % len(deed)],) for deed, way in zip(house[2], ways)),)
+
+
+def log_with(*tolls):
+    """LOG with other tolls."""
+    return LOG[:2] + ((PUT, ((("toll", 0, tolls), ("set", 0, 0)),)),)
 
 
 def with_steps(sizes, *steps):
@@ -191,6 +239,38 @@ def guarded_houses(seed, how_many, sizes=(3, 4)):
         deeds = tuple(tuple(_guarded_way(source, size) for _ in range(source.randrange(1, 4))) for _ in range(many))
         if leads_on(((size,), (0,), deeds)):
             found.append(require_house(((size,), (0,), deeds)))
+    return found
+
+
+def _rich_way(source, sizes):
+    steps = []
+    while len(steps) < 6:
+        cell = source.randrange(len(sizes))
+        size, kind = sizes[cell], source.randrange(10)
+        if kind < 3:
+            step = ("when", cell, 0, size - 2, ("add", cell, 1))
+        elif kind < 5:
+            step = ("when", cell, 1, size - 1, ("take", cell, 1))
+        elif kind < 7:
+            step = ("set", cell, source.randrange(size))
+        else:
+            step = ("toll", cell, tuple(source.choice((0, source.randrange(100))) for _ in range(size)))
+        if step[0] != "when" and source.randrange(2):
+            step = _when(source, sizes, step)
+        steps.append(step)
+    return tuple(steps)
+
+
+def rich_houses(seed, how_many, deeds=2):
+    """Houses of 24 contents, most of which are come to."""
+    source = random.Random(seed)
+    found = []
+    while len(found) < how_many:
+        sizes = source.choice(((8, 3), (4, 6), (2, 3, 4), (3, 8), (6, 4)))
+        ways = [[_rich_way(source, sizes) for _ in range(source.randrange(1, 4))] for _ in range(deeds)]
+        house = (sizes, tuple(source.randrange(size) for size in sizes), tuple(tuple(deed) for deed in ways))
+        if len(come_to(house)) >= 16:
+            found.append(require_house(house))
     return found
 
 

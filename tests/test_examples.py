@@ -92,6 +92,41 @@ HOME = """
     (True, (), ((1,),))
 """
 
+FRONTS = """
+    >>> from paidahead.fronts import front
+    >>> put = ((("add", 0, 1), ("pay", 1)),)
+    >>> read = ((("toll", 0, (0, 4, 6, 7, 7)), ("set", 0, 0)),)
+    >>> log = ((5,), (0,), (put, read))
+    >>> front(log)
+    (((0, 11), 1), ((1, 7), 1), ((2, 4), 1), ((3, 2), 1), ((5, 0), 1))
+"""
+
+MOSTS = """
+    >>> from paidahead.mosts import most
+    >>> put = ((("add", 0, 1), ("pay", 1)),)
+    >>> read = ((("toll", 0, (0, 4, 6, 7, 7)), ("set", 0, 0)),)
+    >>> log = ((5,), (0,), (put, read))
+    >>> (most(log, (4, 1)), most(log, (4, 2)))
+    (11, 16)
+"""
+
+PAIRS = """
+    >>> from paidahead.pairs import excess
+    >>> one = ((2,), (0,), (((("toll", 0, (3, 0)), ("set", 0, 1)),), ((("toll", 0, (0, 1)), ("set", 0, 0)),)))
+    >>> two = ((2,), (0,), (((("toll", 0, (1, 0)), ("set", 0, 1)),), ((("toll", 0, (0, 3)), ("set", 0, 0)),)))
+    >>> (excess(one, two), excess(two, one))
+    (2, 0)
+"""
+
+WINS = """
+    >>> from paidahead.wins import winning_mix
+    >>> put = ((("add", 0, 1), ("pay", 1)),)
+    >>> read = ((("toll", 0, (0, 4, 6, 7, 7)), ("set", 0, 0)),)
+    >>> log = ((5,), (0,), (put, read))
+    >>> winning_mix(log, log) is None
+    True
+"""
+
 README = os.path.join(os.path.dirname(os.path.dirname(os.path.abspath(__file__))), "README.md")
 
 
@@ -129,6 +164,18 @@ class ExamplesTest(unittest.TestCase):
 
     def test_home(self):
         self.follow(HOME, "home")
+
+    def test_fronts(self):
+        self.follow(FRONTS, "fronts")
+
+    def test_mosts(self):
+        self.follow(MOSTS, "mosts")
+
+    def test_pairs(self):
+        self.follow(PAIRS, "pairs")
+
+    def test_wins(self):
+        self.follow(WINS, "wins")
 
     def test_readme(self):
         with open(README, encoding="utf-8") as file:

@@ -19,6 +19,10 @@ FUNCTIONS = {
     "worths": ("worth(house, mix)", "best_tariff(house, mix)"),
     "plans": ("best_plan(house, mix)", "plan_pays(house, plan)", "is_within(house, plan, mix)"),
     "home": ("strays(house)", "comes_home(house)", "home_road(house, content)", "round_all(house, plan, *, laps)"),
+    "fronts": ("front(house)", "front_rings(house)"),
+    "mosts": ("most(house, limits)", "most_history(house, limits)"),
+    "pairs": ("excess(house, other)", "excess_history(house, other)", "excess_ring(house, other)"),
+    "wins": ("winning_mix(house, other)",),
 }
 
 

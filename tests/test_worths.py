@@ -7,7 +7,8 @@ from paidahead.tariffs import require_tariff
 from paidahead.worths import best_tariff, worth
 from tests import oracles
 from tests.cases import Case
-from tests.samples import BEHIND, FREE, LARGE, LOG, NAMED, ROOMS, ROUND, SHUT, STUCK, WHEEL, guarded_houses, many_houses
+from tests.samples import BEHIND, FIVE, FREE, LARGE, LOG, NAMED, ROOMS, ROUND, SHUT, STUCK, WHEEL
+from tests.samples import guarded_houses, many_houses
 
 
 def some_mix(source, many):
@@ -47,15 +48,10 @@ class WorthTest(Case):
         self.assertEqual(worth(LOG, (1, 100)), (5, 1))
 
     def test_rings_that_two_deeds_make(self):
-        # A turn is two moves of the first deed and three of the second one, and pays 5.
-        pair = ((6,), (0,), (
-            ((("only", 0, 0, 1), ("add", 0, 1), ("pay", 1)),),
-            ((("only", 0, 2, 3), ("add", 0, 1), ("pay", 1)), (("only", 0, 4, 4), ("set", 0, 0), ("pay", 1))),
-        ))
-        self.assertEqual(worth(pair, (1, 1)), (5, 3))
-        self.assertEqual(worth(pair, (2, 3)), (5, 1))
-        self.assertEqual(worth(pair, (1, 100)), (5, 2))
-        self.assertEqual(worth(pair, (0, 1)), (0, 1))
+        self.assertEqual(worth(FIVE, (1, 1)), (5, 3))
+        self.assertEqual(worth(FIVE, (2, 3)), (5, 1))
+        self.assertEqual(worth(FIVE, (1, 100)), (5, 2))
+        self.assertEqual(worth(FIVE, (0, 1)), (0, 1))
 
     def test_rings_that_three_deeds_make(self):
         self.assertEqual(worth(ROUND, (1, 1, 1)), (14, 1))
