@@ -19,7 +19,7 @@ def require_house(value):
     if not (is_row(value, 3, 3) and is_row(value[2], 1, MOST_DEEDS)):
         raise InvalidHouse(None)
     sizes, begin, deeds = value
-    if not _are_sizes(sizes):
+    if not are_sizes(sizes):
         raise InvalidHouse(("sizes",))
     if not is_content(sizes, begin):
         raise InvalidHouse(("begin",))
@@ -27,6 +27,15 @@ def require_house(value):
         if not is_deed(sizes, deed):
             raise InvalidHouse(("deed", number))
     return value
+
+
+def is_house(value):
+    """Tell whether value, which may be any value, is a house."""
+    try:
+        require_house(value)
+    except InvalidHouse:
+        return False
+    return True
 
 
 def contents(house):
@@ -46,7 +55,8 @@ def is_deed(sizes, value):
     return is_row(value, 1, MOST_WAYS) and all([_is_way(sizes, way) for way in value])
 
 
-def _are_sizes(value):
+def are_sizes(value):
+    """Tell whether value, which may be any value, is a tuple of the sizes of a house's cells."""
     if not is_row(value, 1, MOST_CELLS):
         return False
     many = 1
@@ -58,10 +68,11 @@ def _are_sizes(value):
 
 
 def _is_way(sizes, value):
-    return is_row(value, 0, MOST_STEPS) and all([_is_step(sizes, step) for step in value])
+    return is_row(value, 0, MOST_STEPS) and all([is_step(sizes, step) for step in value])
 
 
-def _is_step(sizes, value):
+def is_step(sizes, value):
+    """Tell whether value, which may be any value, is a step of cells of these sizes."""
     return _is_plain(sizes, value) or _is_only(sizes, value) or _is_when(sizes, value, MOST_WHENS)
 
 

@@ -12,12 +12,17 @@ MOST_Q = 1000000
 
 def require_tariff(house, value):
     """Return value, which may be any value, or raise InvalidTariff if it is no tariff of the house."""
-    if not (is_row(value, 2, 2) and _are_prices(house, value[0]) and is_number(value[1], 1, MOST_Q)):
-        raise InvalidTariff()
-    prices, q = value
-    if divisor(prices + (q,)) > 1:
+    if not is_tariff(house, value):
         raise InvalidTariff()
     return value
+
+
+def is_tariff(house, value):
+    """Tell whether value, which may be any value, is a tariff of the house."""
+    if not (is_row(value, 2, 2) and _are_prices(house, value[0]) and is_number(value[1], 1, MOST_Q)):
+        return False
+    prices, q = value
+    return divisor(prices + (q,)) == 1
 
 
 def charge(tariff, counts):

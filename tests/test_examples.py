@@ -127,6 +127,44 @@ WINS = """
     True
 """
 
+CLAIMS = """
+    >>> from paidahead.claims import decide
+    >>> put = ((("add", 0, 1), ("pay", 1)),)
+    >>> read = ((("toll", 0, (0, 4, 6, 7, 7)), ("set", 0, 0)),)
+    >>> log = ((5,), (0,), (put, read))
+    >>> (decide(log, ("worth", (3, 2), 13, 1))[0], decide(log, ("fair", ((1, 1), 1)))[0], decide(log, ("most", (4, 1), 11))[0])
+    ('shown', 'broken', 'shown')
+"""
+
+CHECKER = """
+    >>> from paidahead.checker import first_fault
+    >>> put = ((("add", 0, 1), ("pay", 1)),)
+    >>> read = ((("toll", 0, (0, 4, 6, 7, 7)), ("set", 0, 0)),)
+    >>> log = ((5,), (0,), (put, read))
+    >>> first_fault(log, ("broken", ("fair", ((3, 2), 1)), ((), ((0, 0), (1, 0)))))
+    ('paid',)
+"""
+
+STREETS = """
+    >>> from paidahead.streets import Street
+    >>> put = ((("add", 0, 1), ("pay", 1)),)
+    >>> read = ((("toll", 0, (0, 4, 6, 7, 7)), ("set", 0, 0)),)
+    >>> log = ((5,), (0,), (put, read))
+    >>> street = Street((log,), ((3, 2), 1))
+    >>> paid = street.do(0, 0, 0)
+    >>> (paid, street.purse(), street.content(0), street.forecast())
+    (1, 2, (1,), 2)
+"""
+
+TEXTS = """
+    >>> from paidahead.texts import format_house, format_tariff
+    >>> put = ((("add", 0, 1), ("pay", 1)),)
+    >>> read = ((("toll", 0, (0, 4, 6, 7, 7)), ("set", 0, 0)),)
+    >>> log = ((5,), (0,), (put, read))
+    >>> (format_house(log), format_tariff(((3, 2), 1)))
+    ('cells 5\\nbegin 0\\ndeed\\nway\\nadd 0 1\\npay 1\\ndeed\\nway\\ntoll 0 by 0 4 6 7 7\\nset 0 0\\n', '3 2 by 1\\n')
+"""
+
 README = os.path.join(os.path.dirname(os.path.dirname(os.path.abspath(__file__))), "README.md")
 
 
@@ -176,6 +214,18 @@ class ExamplesTest(unittest.TestCase):
 
     def test_wins(self):
         self.follow(WINS, "wins")
+
+    def test_claims(self):
+        self.follow(CLAIMS, "claims")
+
+    def test_checker(self):
+        self.follow(CHECKER, "checker")
+
+    def test_streets(self):
+        self.follow(STREETS, "streets")
+
+    def test_texts(self):
+        self.follow(TEXTS, "texts")
 
     def test_readme(self):
         with open(README, encoding="utf-8") as file:

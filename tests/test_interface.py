@@ -23,10 +23,33 @@ FUNCTIONS = {
     "mosts": ("most(house, limits)", "most_history(house, limits)"),
     "pairs": ("excess(house, other)", "excess_history(house, other)", "excess_ring(house, other)"),
     "wins": ("winning_mix(house, other)",),
+    "claims": ("require_claim(house, claim)", "decide(house, claim)"),
+    "checker": ("first_fault(house, certificate)",),
+    "texts": ("format_house(house)", "format_tariff(tariff)", "parse_house(text)", "parse_tariff(text, house)"),
 }
 
 
+STREET = (
+    "__init__(self, houses, tariff, *, stock=0)", "__len__(self)", "do(self, which, deed, way)", "purse(self)",
+    "paid(self)", "houses(self)", "tariff(self)", "content(self, which)", "counts(self, which)", "forecast(self)",
+    "set_tariff(self, tariff)", "set_deed(self, which, index, deed)", "go_home(self, which)", "pay_in(self, amount)",
+    "checkpoint(self)", "restore(self, number)", "decide(self, which, claim)", "record(self, which, claim)",
+    "records(self)", "recorded(self, number)", "standing(self, number)",
+)
+
+
 class InterfaceTest(unittest.TestCase):
+    def test_street(self):
+        street = importlib.import_module("paidahead.streets").Street
+        self.assertTrue(inspect.isclass(street))
+        self.assertEqual(street.__module__, "paidahead.streets")
+        for told in STREET:
+            with self.subTest(method=told):
+                # In the class itself, not only in a base class.
+                method = vars(street)[told.partition("(")[0]]
+                self.assertTrue(inspect.isfunction(method))
+                self.assertEqual(method.__name__ + str(inspect.signature(method)), told)
+
     def test_functions(self):
         for file, listed in FUNCTIONS.items():
             module = importlib.import_module("paidahead." + file)

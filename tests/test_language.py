@@ -1,6 +1,7 @@
-"""The rules of LANGUAGE.md that can be seen by counting: L1, L2, L10, L14, L15."""
+"""The rules of LANGUAGE.md that can be seen by counting: L1, L2, L7, L8, L10, L14, L15, L16, L25."""
 
 import ast
+import builtins
 import os
 import unittest
 import warnings
@@ -8,6 +9,21 @@ import warnings
 PACKAGE = os.path.join(os.path.dirname(os.path.dirname(os.path.abspath(__file__))), "paidahead")
 LIBRARY = ("heapq", "math", "itertools", "collections")
 FUNCTIONS = (ast.FunctionDef, ast.AsyncFunctionDef)
+
+# The builtins and the methods of builtin values that the package uses, all of which L8 and L25 allow.
+BUILTINS = (
+    "LookupError", "OverflowError", "RuntimeError", "ValueError", "all", "any", "bool", "enumerate", "int",
+    "isinstance", "len", "list", "max", "range", "reversed", "sorted", "str", "sum", "tuple", "zip",
+)
+# Without the newest answer, which Python puts there where it is asked line by line.
+ALL_BUILTINS = tuple(name for name in dir(builtins) if name != "_")
+METHODS = ("append", "extend", "get", "items", "join", "pop", "split", "update", "values")
+
+# What the package does without.
+LEFT_OUT = (
+    ast.AsyncFunctionDef, ast.Await, ast.Div, ast.GeneratorExp, ast.Global, ast.Nonlocal, ast.Set, ast.SetComp,
+    ast.With, ast.Yield, ast.YieldFrom, ast.NamedExpr, ast.AnnAssign,
+)
 
 
 def sources():
@@ -17,6 +33,14 @@ def sources():
         for name in sorted(files):
             with open(os.path.join(folder, name), encoding="utf-8") as file:
                 found.append((os.path.relpath(os.path.join(folder, name), PACKAGE), file.read()))
+    return found
+
+
+def defined_in(tree):
+    found = {node.name for node in tree.body if isinstance(node, FUNCTIONS + (ast.ClassDef,))}
+    for node in tree.body:
+        if isinstance(node, ast.Assign):
+            found.update(target.id for target in node.targets)
     return found
 
 
@@ -70,6 +94,40 @@ class LanguageTest(unittest.TestCase):
                 elif isinstance(node, ast.Assign):
                     bound.extend(target.id for target in node.targets)
             self.assertEqual(len(bound), len(set(bound)), name)
+
+    def test_no_name_hides_an_import_a_class_or_a_builtin(self):
+        for name, text in sources():
+            tree = ast.parse(text)
+            taken = set(ALL_BUILTINS)
+            for node in tree.body:
+                if isinstance(node, ast.ClassDef):
+                    taken.add(node.name)
+                elif isinstance(node, ast.ImportFrom):
+                    taken.update(part.name for part in node.names)
+            bound = [node.id for node in ast.walk(tree) if isinstance(node, ast.Name) and isinstance(node.ctx, ast.Store)]
+            bound += [node.arg for node in ast.walk(tree) if isinstance(node, ast.arg)]
+            self.assertEqual(taken & set(bound), set(), name)
+
+    def test_each_import_is_used_and_names_the_file_that_defines_it(self):
+        trees = {name: ast.parse(text) for name, text in sources()}
+        for name, tree in trees.items():
+            used = {node.id for node in ast.walk(tree) if isinstance(node, ast.Name)}
+            for node in tree.body:
+                if isinstance(node, ast.ImportFrom):
+                    self.assertEqual({part.name for part in node.names} - used, set(), name)
+                    if node.module.startswith("paidahead."):
+                        defined = defined_in(trees[node.module.partition(".")[2] + ".py"])
+                        self.assertEqual({part.name for part in node.names} - defined, set(), name)
+
+    def test_builtins_and_methods(self):
+        own = {node.name for _, text in sources() for node in ast.walk(ast.parse(text)) if isinstance(node, FUNCTIONS)}
+        for name, text in sources():
+            for node in ast.walk(ast.parse(text)):
+                self.assertNotIsInstance(node, LEFT_OUT, name)
+                if isinstance(node, ast.Name) and node.id in ALL_BUILTINS:
+                    self.assertIn(node.id, BUILTINS, name)
+                if isinstance(node, ast.Call) and isinstance(node.func, ast.Attribute):
+                    self.assertTrue(node.func.attr in own or node.func.attr in METHODS, (name, node.func.attr))
 
     def test_python_gives_no_warning(self):
         with warnings.catch_warnings():
